@@ -1,0 +1,1 @@
+"""Viewkin: webs seen from within."""
