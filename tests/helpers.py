@@ -1,6 +1,8 @@
 """What several tests share: webs, wrong values, and the document's terms word by word."""
 
+import fractions
 import itertools
+import math
 import random
 import unittest
 
@@ -49,6 +51,28 @@ def bare(colours):
     return Web(colours, [])
 
 
+def circulant(many, steps):
+    """A ring of places, each tied to those that are so many steps away."""
+    return Web([0] * many, sorted({tuple(sorted((k, (k + step) % many))) for k in range(many)
+                                   for step in steps}))
+
+
+def cube():
+    return Web([0] * 8, [(a, b) for a, b in all_pairs(8) if bin(a ^ b).count("1") == 1])
+
+
+def petersen():
+    """Ten places, three ties at each, no ring shorter than five."""
+    ties = [(k, (k + 1) % 5) for k in range(5)] + [(5 + k, 5 + (k + 2) % 5) for k in range(5)]
+    return Web([0] * 10, sorted([tuple(sorted(tie)) for tie in ties] + [(k, k + 5) for k in range(5)]))
+
+
+def prism():
+    """Ten places, three ties at each: two rings of five, one above the other."""
+    ties = [(k, (k + 1) % 5) for k in range(5)] + [(5 + k, 5 + (k + 1) % 5) for k in range(5)]
+    return Web([0] * 10, sorted([tuple(sorted(tie)) for tie in ties] + [(k, k + 5) for k in range(5)]))
+
+
 def all_pairs(many):
     return list(itertools.combinations(range(many), 2))
 
@@ -90,6 +114,15 @@ def neighbours_of(web, place):
     return [sum(tie) - place for tie in web.ties if place in tie]
 
 
+def rows_of(web):
+    """For each place a list of its neighbours, read off the ties."""
+    rows = [[] for place in range(len(web))]
+    for low, high in web.ties:
+        rows[low].append(high)
+        rows[high].append(low)
+    return rows
+
+
 def view_by_words(web, place, depth):
     """[11], word by word."""
     if depth == 0:
@@ -98,22 +131,25 @@ def view_by_words(web, place, depth):
     return (web.colours[place], tuple(sorted(near)))
 
 
-def numbered_views(webs, depth):
-    """For each depth up to this one, a number for each place of some webs that stands for its view.
+def levels_of_views(webs):
+    """For each depth, a number for each place of some webs that stands for its view.
 
     Numbers are alike where the views are, as each view is looked up whole.
     """
     known = {}
     numbers = [[known.setdefault((colour, ()), len(known)) for colour in web.colours] for web in webs]
-    near = [[neighbours_of(web, place) for place in range(len(web))] for web in webs]
-    levels = [numbers]
-    for step in range(depth):
+    near = [rows_of(web) for web in webs]
+    while True:
+        yield numbers
         known = {}
         numbers = [[known.setdefault((web.colours[place], tuple(sorted(old[spot] for spot in rows[place]))),
                                      len(known))
                     for place in range(len(web))] for web, old, rows in zip(webs, numbers, near)]
-        levels.append(numbers)
-    return levels
+
+
+def numbered_views(webs, depth):
+    """The numbers of the views to each depth up to this one."""
+    return list(itertools.islice(levels_of_views(webs), depth + 1))
 
 
 def grouped(names):
@@ -122,3 +158,82 @@ def grouped(names):
     for place, name in enumerate(names):
         found.setdefault(name, []).append(place)
     return tuple(sorted(tuple(places) for places in found.values()))
+
+
+def names_by_words(*webs):
+    """For each web a list with a number for each place, alike where the kinds are ([20])."""
+    told = 0
+    for numbers in levels_of_views(webs):
+        if len(set().union(*numbers)) == told:
+            return numbers
+        told = len(set().union(*numbers))
+
+
+def table_by_words(web, names):
+    """A dict: for each kind how many neighbours of which kinds each of its places has."""
+    found = {}
+    for place, spots in enumerate(rows_of(web)):
+        near = [names[spot] for spot in spots]
+        row = {name: near.count(name) for name in near}
+        if found.setdefault(names[place], row) != row:
+            raise AssertionError("[21] does not hold")
+    return found
+
+
+def joined_by_words(found, name):
+    """The kinds of a table that are joined with a kind, and itself."""
+    met = {name}
+    while True:
+        more = met | {near for one in met for near in found[one]}
+        if more == met:
+            return met
+        met = more
+
+
+def shares_by_words(found):
+    """[15]: a dict with the share of each kind of a table, from one kind to the next one."""
+    shares = {}
+    for name in found:
+        if name in shares:
+            continue
+        told, waiting = {name: fractions.Fraction(1)}, [name]
+        for one in waiting:
+            for near in found[one]:
+                if near not in told:
+                    told[near] = told[one] * found[one][near] / found[near][one]
+                    waiting.append(near)
+        wide = math.lcm(*[share.denominator for share in told.values()])
+        divisor = math.gcd(*[int(share * wide) for share in told.values()])
+        shares.update({one: int(share * wide) // divisor for one, share in told.items()})
+    return shares
+
+
+def plain_size_by_words(one, other):
+    """[16] and [17]."""
+    here, there = names_by_words(one, other)
+    found = table_by_words(one, here)
+    shares = shares_by_words(found)
+    size = 0
+    for name in found:
+        joined = joined_by_words(found, name)
+        great = math.lcm(*[shares[kind] for kind in joined],
+                         *[shares[kind] * many for kind in joined for many in found[kind].values()])
+        size += here.count(name) * there.count(name) * great // shares[name]
+    return size
+
+
+def alike_by_words(one, other):
+    """[13]."""
+    here, there = names_by_words(one, other)
+    return all(name in there for name in here) and all(name in here for name in there)
+
+
+def folding_by_words(one, other, value):
+    """[14], of a tuple with an integer from 0 on for each place of one."""
+    here, there = rows_of(one), rows_of(other)
+    for place, spot in enumerate(value):
+        if spot >= len(other) or one.colours[place] != other.colours[spot]:
+            return False
+        if sorted(value[near] for near in here[place]) != sorted(there[spot]):
+            return False
+    return all(spot in value for spot in range(len(other)))

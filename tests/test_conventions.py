@@ -4,7 +4,11 @@ import copy
 import unittest
 
 from tests.helpers import Case, bare, line, ring, star
-from viewkin.errors import BadColours, BadNumber, BadPlace, BadTies, TooGreat
+from viewkin.commons import alike, common, plain_size
+from viewkin.errors import BadColours, BadNumber, BadPlace, BadTies, TooGreat, Unlike
+from viewkin.foldings import is_folding
+from viewkin.papers import is_paper, paper
+from viewkin.tables import shares, table
 from viewkin.views import depth_of, kinds, kinds_at, parted_at, same_view, view
 from viewkin.webs import Web, beside, part, pieces, renamed
 
@@ -12,7 +16,17 @@ from viewkin.webs import Web, beside, part, pieces, renamed
 def calls():
     """Each function with arguments by their names."""
     one, other = line(4, [0, 1, 1, 2]), star(3)
+    short, long = ring(3), ring(6)
     return [
+        (table, {"web": one}),
+        (shares, {"web": other}),
+        (is_folding, {"one": long, "other": short, "value": (0, 1, 2, 0, 1, 2)}),
+        (alike, {"one": short, "other": long}),
+        (plain_size, {"one": long, "other": short}),
+        (common, {"one": ring(4), "other": short}),
+        (paper, {"one": short, "other": long}),
+        (paper, {"one": one, "other": other}),
+        (is_paper, {"one": one, "other": other, "value": ("view", 0, 1, 0)}),
         (pieces, {"web": one}),
         (beside, {"one": one, "other": other}),
         (part, {"web": one, "places": [1, 2]}),
@@ -57,11 +71,25 @@ class Conventions(Case):
         self.assertEqual(parted_at(spot=1, other=web, place=0, one=ring(3)), 1)
         self.assertIs(same_view(depth=0, spot=1, other=web, place=0, one=ring(3)), True)
         self.assertEqual(kinds_at(depth=0, web=web), ((0, 2), (1,)))
+        self.assertEqual(table(web=web), ((0, 1), (2, 0)))
+        self.assertEqual(shares(web=web), (2, 1))
+        self.assertIs(is_folding(value=(0, 1, 2, 0, 1, 2), other=ring(3), one=ring(6)), True)
+        self.assertIs(is_folding(value=(0, 1, 2, 0, 1, 2), one=ring(3), other=ring(6)), False)
+        self.assertIs(alike(other=ring(3), one=ring(6)), True)
+        self.assertEqual(plain_size(other=web, one=beside(web, web)), 12)
+        self.assertEqual(paper(other=bare([0, 1]), one=bare([1])), ("view", 1, 0, 0))
+        self.assertIs(is_paper(value=("view", 1, 1, 0), other=web, one=bare([1])), True)
+        self.assertIs(is_paper(value=("view", 1, 1, 0), one=web, other=bare([1])), False)
+        above, first, second = common(other=ring(4), one=ring(3))
+        self.assertIs(is_folding(above, ring(3), first), True)
+        self.assertIs(is_folding(above, ring(4), second), True)
 
     def test_the_first_of_several_errors_by_name_too(self):
         self.refused(BadColours, None, Web, ties=None, colours=None)
         self.refused(BadPlace, None, view, depth=None, place=None, web=line(2))
         self.refused(BadTies, None, Web, ties=None, colours=[0])
+        self.refused(TooGreat, 24, common, other=ring(25), one=line(3))
+        self.assertRaises(Unlike, common, other=ring(24), one=line(3))
 
     def test_arguments_are_not_modified(self):
         for function, named in calls():
@@ -91,6 +119,11 @@ class Conventions(Case):
         self.assertIs(same_view(line(2), 0, line(3), 0, 5), False)
         self.assertIs(line(2) == line(2), True)
         self.assertIs(line(2) == line(3), False)
+        for wanted, other in ((True, ring(6)), (False, line(6))):
+            self.assertIs(alike(ring(3), other), wanted)
+            self.assertIs(is_folding(other, ring(3), (0, 1, 2, 0, 1, 2)), wanted)
+            self.assertIs(is_paper(other, ring(3), ("common", (0,) * 6, ring(6).ties,
+                                                    (0, 1, 2, 3, 4, 5), (0, 1, 2) * 2)), wanted)
 
 
 if __name__ == "__main__":

@@ -12,6 +12,10 @@ INTERFACE = {
                "TooGreat", "Apart", "BadFolding", "BadOrders", "BadText", "BadDeed", "NothingLeft"],
     "webs": ["MOST_PLACES", "MOST_TIES", "Web", "pieces", "beside", "part", "renamed"],
     "views": ["view", "same_view", "parted_at", "kinds", "kinds_at", "depth_of"],
+    "tables": ["table", "shares"],
+    "foldings": ["is_folding"],
+    "commons": ["alike", "plain_size", "common"],
+    "papers": ["paper", "is_paper"],
 }
 METHODS = {("webs", "Web"): ["__init__", "__len__", "__eq__", "neighbours"]}
 BUILTINS = set("""len range enumerate zip min max sum abs sorted reversed int str bool bytes list tuple

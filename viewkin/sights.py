@@ -73,6 +73,11 @@ class Sight:
         """Whether two places have the same view to the depth that has been reached."""
         return self.names[place] == self.names[spot]
 
+    def among(self, place, spots):
+        """Those of some places that have the same view as a place, to the depth that has been reached."""
+        name = self.names[place]
+        return [spot for spot in spots if self.names[spot] == name]
+
     def bundled(self):
         """An ascending tuple of the groups, each an ascending tuple of places."""
         found = {}
@@ -101,3 +106,10 @@ def sight_of_both(one, other):
     many = len(one)
     behind = tuple([tuple([spot + many for spot in row]) for row in other.rows])
     return Sight(one.colours + other.colours, one.rows + behind)
+
+
+def whole_sight(one, other):
+    """The places of two webs by their kinds, those of other numbered on behind those of one."""
+    sight = sight_of_both(one, other)
+    sight.look(len(one) + len(other))
+    return sight

@@ -95,29 +95,39 @@ class Web:
         return self.rows[place]
 
 
-def reached(web, place):
-    """A dict of all places to which ties lead from a place, and of the place itself."""
+def reached(rows, place):
+    """A dict of all places to which rows of neighbours lead from a place, and of the place itself."""
     met = {place: True}
     waiting = [place]
     while waiting:
         last = waiting.pop()
-        for spot in web.rows[last]:
+        for spot in rows[last]:
             if spot not in met:
                 met[spot] = True
                 waiting.append(spot)
     return met
 
 
-def pieces(web):
-    """An ascending tuple of the pieces of a web."""
+def linked(rows):
+    """An ascending tuple of the greatest sets of places that rows of neighbours link."""
     found = []
     done = {}
-    for place in range(len(web)):
+    for place in range(len(rows)):
         if place not in done:
-            met = reached(web, place)
+            met = reached(rows, place)
             found.append(tuple(sorted(met)))
             done.update(met)
     return tuple(found)
+
+
+def pieces(web):
+    """An ascending tuple of the pieces of a web."""
+    return linked(web.rows)
+
+
+def hangs_together(web):
+    """Whether a web is of one piece."""
+    return len(reached(web.rows, 0)) == len(web)
 
 
 def beside(one, other):
