@@ -114,6 +114,17 @@ class Form(unittest.TestCase):
             elif not isinstance(node, ast.Attribute):
                 self.assertNotIn(name, vars(builtins), at)
 
+    def test_no_local_name_is_that_of_a_class_or_an_import(self):
+        for path in files():
+            known = {one.name for node in ast.walk(tree(path)) if isinstance(node, ast.ImportFrom)
+                     for one in node.names}
+            known |= {node.name for node in tree(path).body if isinstance(node, ast.ClassDef)}
+            for node in ast.walk(tree(path)):
+                if isinstance(node, ast.arg):
+                    self.assertNotIn(node.arg, known, path.name)
+                if isinstance(node, ast.Name) and isinstance(node.ctx, ast.Store):
+                    self.assertNotIn(node.id, known, path.name)
+
     def test_methods_that_are_called(self):
         own = {node.name for at, node in each_node(ast.FunctionDef)}
         for at, node in each_node(ast.Call):

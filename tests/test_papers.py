@@ -8,6 +8,7 @@ from tests.helpers import (HUGE, Case, alike_by_words, all_pairs, bare, circulan
                            star, wrong_values)
 from viewkin.commons import alike
 from viewkin.errors import TooGreat
+from viewkin.foldings import is_folding
 from viewkin.papers import is_paper, paper
 from viewkin.webs import Web, beside
 
@@ -303,7 +304,34 @@ class CommonPapers(Case):
             self.assertIs(is_paper(one, one, ("common", (0,) * 32 * copies, ties, down, down)), wanted)
 
 
+class Same:
+    """An object that says it is equal to everything."""
+
+    def __eq__(self, other):
+        return True
+
+    def __hash__(self):
+        return 0
+
+
+class Rude:
+    """An object that cannot be compared."""
+
+    def __eq__(self, other):
+        raise RuntimeError("not to be compared")
+
+
 class AnyValue(Case):
+
+    def test_objects_that_are_compared_in_their_own_way(self):
+        for value in (Same(), Rude()):
+            for one, other, good in ((bare([0]), bare([0]), ("common", (0,), (), (0,), (0,))),
+                                     (bare([0]), bare([1]), ("view", 0, 0, 0))):
+                self.assertIs(is_paper(one, other, good), True)
+                self.assertIs(is_paper(one, other, value), False)
+                for at in range(len(good)):
+                    self.assertIs(is_paper(one, other, good[:at] + (value,) + good[at + 1:]), False)
+            self.assertIs(is_folding(ring(3), ring(3), (0, value, 2)), False)
 
     def test_values_of_all_kinds(self):
         values = wrong_values() + [

@@ -1,5 +1,8 @@
 """Web: its making, what it refuses, and its methods."""
 
+import decimal
+import fractions
+import random
 import unittest
 
 from tests.helpers import HUGE, Case, all_pairs, bare, full, line, star, wrong_values
@@ -159,6 +162,77 @@ class BadTiesRefused(Case):
     def test_too_many_ahead_of_items(self):
         self.refused(TooGreat, 30000, Web, [0, 0], [None] * 30001)
         self.refused(BadTies, 0, Web, [0, 0], [None] * 30000)
+
+
+def is_place(value, many):
+    return isinstance(value, int) and not isinstance(value, bool) and 0 <= value < many
+
+
+def first_fault(ties, many):
+    """The number of the first item at fault, as the interface tells it word by word, or None."""
+    for number, tie in enumerate(ties):
+        if not (isinstance(tie, tuple) and len(tie) == 2 and all(is_place(end, many) for end in tie)):
+            return number
+        if not tie[0] < tie[1] or (number > 0 and not ties[number - 1] < tie):
+            return number
+    return None
+
+
+class FirstFault(Case):
+    """The ties of a web with some of them made wrong, for which the words tell the first fault."""
+
+    def told(self, ties, many):
+        fault = first_fault(ties, many)
+        for value in (ties, tuple(ties)):
+            if fault is None:
+                web = Web([0] * many, value)
+                self.assertEqual(web.ties, tuple(ties))
+                near = [tuple(sorted(sum(tie) - place for tie in ties if place in tie))
+                        for place in range(many)]
+                self.assertEqual([web.neighbours(place) for place in range(many)], near)
+            else:
+                self.refused(BadTies, fault, Web, [0] * many, value)
+
+    def test_each_list_of_two_pairs(self):
+        ends = [-1, 0, 1, 2, 3, True, False]
+        pairs = [(low, high) for low in ends for high in ends]
+        for first in pairs:
+            self.told([first], 3)
+            for second in pairs:
+                self.told([first, second], 3)
+
+    def test_each_pair_behind_all_ties_of_its_lesser_place(self):
+        for low in range(4):
+            before = [tie for tie in all_pairs(5) if tie[0] <= low]
+            for first in [0, 1, 2, 3, 4, 5, True, False, None, "1", (1,)]:
+                for last in [0, 1, 2, 3, 4, 5, True, False, None, "4", (4,)]:
+                    self.told(before + [(first, last), (3, 4)], 5)
+
+    def test_what_equals_a_place(self):
+        for kind in (fractions.Fraction, decimal.Decimal, complex):
+            for low, high in ((0, 1), (1, 2), (2, 3)):
+                self.told([(0, 1), (kind(low), high)], 4)
+                self.told([(low, kind(high))], 4)
+        self.told([(1, 2), (True, 3)], 4)
+        self.told([(0, 1), (0, 2), (False, 3)], 4)
+
+    def test_ties_with_items_made_wrong(self):
+        dice = random.Random(7)
+        for turn in range(3000):
+            many = dice.randint(2, 9)
+            ties = [tie for tie in all_pairs(many) if dice.random() < 0.5]
+            for again in range(dice.randint(0, 2)):
+                at = dice.randrange(len(ties) + 1)
+                end = dice.choice([-1, 0, 1, 2, many - 1, many, True, False, None, "0", (0, 1), HUGE])
+                tie = dice.choice([(end, dice.randrange(many)), (dice.randrange(many), end), (end,), end,
+                                   [0, 1], (0, 1, 2), dice.choice(all_pairs(many))])
+                ties[at:at + dice.randint(0, 1)] = [tie]
+            self.told(ties, many)
+
+    def test_the_last_of_many(self):
+        ties = all_pairs(245)
+        for tie in ((244, 245), (243, 244), (243, 243), (244, 243), (True, 244), None, [243, 244]):
+            self.told(ties + [tie], 245)
 
 
 class Neighbours(Case):

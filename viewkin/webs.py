@@ -17,13 +17,6 @@ def is_below(value, many):
     return is_whole(value) and 0 <= value < many
 
 
-def is_tie(value, many):
-    """Whether a value is a pair of two of so many places, the lesser one first."""
-    if not isinstance(value, tuple) or len(value) != 2:
-        return False
-    return is_below(value[0], many) and is_below(value[1], many) and value[0] < value[1]
-
-
 def is_order(value, many):
     """Whether a value is a tuple with each number from 0 to many - 1 once."""
     if not isinstance(value, tuple) or len(value) != many:
@@ -49,12 +42,22 @@ def check_ties(ties, many):
         raise BadTies(None)
     if len(ties) > MOST_TIES:
         raise TooGreat(MOST_TIES)
-    # No tie is this pair, and each one is greater.
-    before = (0, 0)
+    # Asked tie by tie without calls of own functions, as these would take most of the time.
+    at = last = 0
     for number, tie in enumerate(ties):
-        if not is_tie(tie, many) or not before < tie:
+        if not isinstance(tie, tuple) or len(tie) != 2:
             raise BadTies(number)
-        before = tie
+        low, high = tie
+        if not isinstance(low, int) or not isinstance(high, int):
+            raise BadTies(number)
+        # True and False are less than 2, and a lesser place from 2 on leaves no room for them.
+        if low < 2 and (isinstance(low, bool) or isinstance(high, bool)):
+            raise BadTies(number)
+        if low > at:
+            at = last = low
+        if low < at or not last < high < many:
+            raise BadTies(number)
+        last = high
 
 
 def check_place(web, place):
