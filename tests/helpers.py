@@ -20,7 +20,7 @@ def wrong_values():
 class Case(unittest.TestCase):
     """A test that looks at the fields of errors too."""
 
-    def refused(self, error, value, call, *args, **more):
+    def refused(self, error, value, call, /, *args, **more):
         """The call raises just this error, its field being just this value."""
         with self.assertRaises(Exception) as caught:
             call(*args, **more)
@@ -237,3 +237,81 @@ def folding_by_words(one, other, value):
         if sorted(value[near] for near in here[place]) != sorted(there[spot]):
             return False
     return all(spot in value for spot in range(len(other)))
+
+
+def whole_by_words(web):
+    """Whether a web hangs together, read off its ties."""
+    rows = rows_of(web)
+    met, waiting = {0}, [0]
+    for place in waiting:
+        more = [near for near in rows[place] if near not in met]
+        met.update(more)
+        waiting.extend(more)
+    return len(met) == len(web)
+
+
+def foldings_by_words(one, other):
+    """An ascending list of all foldings of a web that hangs together onto another one, by [14].
+
+    Places get their spots one after the other, each beside one that has one already.
+    """
+    rows, spots = rows_of(one), rows_of(other)
+    order = [0]
+    for place in order:
+        order.extend(near for near in rows[place] if near not in order)
+    found, value = [], {}
+
+    def fits(place):
+        for centre in [place] + rows[place]:
+            met = [value[near] for near in rows[centre] if near in value]
+            if len(set(met)) < len(met):
+                return False
+            if centre in value and not set(met) <= set(spots[value[centre]]):
+                return False
+        return True
+
+    def go_on(at):
+        if at == len(order):
+            told = tuple(value[place] for place in range(len(one)))
+            if folding_by_words(one, other, told):
+                found.append(told)
+            return
+        for spot in range(len(other)):
+            if one.colours[order[at]] == other.colours[spot]:
+                value[order[at]] = spot
+                if fits(order[at]):
+                    go_on(at + 1)
+        value.pop(order[at], None)
+
+    go_on(0)
+    return sorted(found)
+
+
+def shuffled(web, seed):
+    """A web under other names."""
+    dice = random.Random(seed)
+    order = list(range(len(web)))
+    dice.shuffle(order)
+    return Web([web.colours[order.index(place)] for place in range(len(web))],
+               sorted(tuple(sorted((order[low], order[high]))) for low, high in web.ties))
+
+
+def hub(*rings):
+    """A place with a colour of its own, tied to each place of some rings with unlike colours."""
+    colours, ties = [0], []
+    for colour, many in enumerate(rings, 1):
+        first = len(colours)
+        spots = list(range(first, first + many))
+        ties += [(0, spot) for spot in spots]
+        ties += [tuple(sorted((spots[k - 1], spots[k]))) for k in range(many)]
+        colours += [colour] * many
+    return Web(colours, sorted(ties))
+
+
+def without_rings(*rings):
+    """All pairs of places are tied but those that are neighbours on some rings."""
+    left, start = [], 0
+    for many in rings:
+        left += [tuple(sorted((start + k, start + (k + 1) % many))) for k in range(many)]
+        start += many
+    return Web([0] * start, [tie for tie in all_pairs(start) if tie not in left])

@@ -1,14 +1,20 @@
 """Conventions [0] to [4], for every function, method and class that has landed."""
 
 import copy
+import inspect
 import unittest
 
 from tests.helpers import Case, bare, line, ring, star
+from viewkin.bench import Bench, tried
 from viewkin.commons import alike, common, plain_size
-from viewkin.errors import BadColours, BadNumber, BadPlace, BadTies, TooGreat, Unlike
+from viewkin.errors import (Apart, BadColours, BadDeed, BadFolding, BadNumber, BadOrders, BadPlace, BadText, BadTies,
+                            TooGreat, Unlike)
 from viewkin.foldings import is_folding
+from viewkin.layers import count_layered, count_whole, down, layered, leaves, unlayered
 from viewkin.papers import is_paper, paper
 from viewkin.tables import shares, table
+from viewkin.texts import read_web, view_text, web_text
+from viewkin.turnings import count_foldings, folding_at, folding_number, foldings, lone, turnings
 from viewkin.views import depth_of, kinds, kinds_at, parted_at, same_view, view
 from viewkin.webs import Web, beside, part, pieces, renamed
 
@@ -39,6 +45,23 @@ def calls():
         (depth_of, {"web": one}),
         (one.neighbours, {"place": 2}),
         (Web, {"colours": [1, 0], "ties": [(0, 1)]}),
+        (foldings, {"one": long, "other": short}),
+        (count_foldings, {"one": long, "other": short}),
+        (folding_at, {"one": long, "other": short, "number": 2}),
+        (folding_number, {"one": long, "other": short, "value": (2, 1, 0, 2, 1, 0)}),
+        (turnings, {"web": other}),
+        (lone, {"web": other}),
+        (layered, {"web": line(3), "many": 2, "orders": [(1, 0), (0, 1)]}),
+        (down, {"web": one, "many": 3}),
+        (count_layered, {"web": short, "many": 4}),
+        (count_whole, {"web": short, "many": 4}),
+        (leaves, {"one": long, "other": short, "value": (2, 1, 0, 2, 1, 0)}),
+        (unlayered, {"one": long, "other": short, "value": (2, 1, 0, 2, 1, 0)}),
+        (web_text, {"web": one}),
+        (read_web, {"text": "0 1\n0-1"}),
+        (view_text, {"value": (0, ((1, ()),))}),
+        (Bench, {"web": one}),
+        (tried, {"bench": Bench(short), "function": lambda bench: bench.do(("untie", 0, 1))}),
         (BadNumber, {"value": 3}),
         (BadColours, {"place": 3}),
         (TooGreat, {"most": 3}),
@@ -47,6 +70,8 @@ def calls():
 
 def told(value):
     """What can be compared of a value."""
+    if inspect.isgenerator(value):
+        return list(value)
     return (type(value), vars(value)) if isinstance(value, Exception) else value
 
 
@@ -80,6 +105,24 @@ class Conventions(Case):
         self.assertEqual(paper(other=bare([0, 1]), one=bare([1])), ("view", 1, 0, 0))
         self.assertIs(is_paper(value=("view", 1, 1, 0), other=web, one=bare([1])), True)
         self.assertIs(is_paper(value=("view", 1, 1, 0), one=web, other=bare([1])), False)
+        self.assertEqual(next(foldings(other=ring(3), one=ring(6))), (0, 1, 2, 0, 1, 2))
+        self.assertEqual(count_foldings(other=ring(6), one=ring(3)), 0)
+        self.assertEqual(folding_at(number=5, other=ring(3), one=ring(6)), (2, 1, 0, 2, 1, 0))
+        self.assertEqual(folding_number(value=(2, 1, 0, 2, 1, 0), other=ring(3), one=ring(6)), 5)
+        self.assertEqual(turnings(web=web), ((0, 1, 2), (2, 1, 0)))
+        self.assertEqual(lone(web=web), (1,))
+        self.assertEqual(layered(orders=[(1, 0), (1, 0)], many=2, web=line(3)).ties, ((0, 3), (1, 2), (2, 5), (3, 4)))
+        self.assertEqual(down(many=2, web=web), (0, 0, 1, 1, 2, 2))
+        self.assertEqual((count_layered(many=2, web=ring(3)), count_whole(many=2, web=ring(3))), (8, 4))
+        self.assertEqual(leaves(value=(0, 1, 2) * 2, other=ring(3), one=ring(6)), 2)
+        self.assertEqual(unlayered(value=(0, 1), other=line(2), one=line(2)), (1, ((0,),), (0, 1)))
+        self.assertEqual(web_text(web=web), "1 0 1\n0-1 1-2")
+        self.assertEqual(read_web(text="1 0 1\n0-1 1-2"), web)
+        self.assertEqual(view_text(value=(3, ((4, ()),))), "3(4)")
+        bench = Bench(web=web)
+        self.assertEqual(bench.do(deed=("colour", 0, 2)).colours, (2, 0, 1))
+        self.assertEqual(bench.do_all(deeds=[("colour", 0, 3)]).colours, (3, 0, 1))
+        self.assertEqual(tried(function=lambda same: same.undo(), bench=bench), ("colour", 0, 3))
         above, first, second = common(other=ring(4), one=ring(3))
         self.assertIs(is_folding(above, ring(3), first), True)
         self.assertIs(is_folding(above, ring(4), second), True)
@@ -90,12 +133,21 @@ class Conventions(Case):
         self.refused(BadTies, None, Web, ties=None, colours=[0])
         self.refused(TooGreat, 24, common, other=ring(25), one=line(3))
         self.assertRaises(Unlike, common, other=ring(24), one=line(3))
+        self.assertRaises(Apart, folding_at, number=None, other=bare([0, 0]), one=ring(25))
+        self.refused(TooGreat, 24, folding_number, value=None, other=ring(25), one=ring(3))
+        self.refused(BadNumber, 6, folding_at, number=6, other=ring(3), one=ring(6))
+        self.refused(BadNumber, 13, layered, orders=None, many=13, web=line(2))
+        self.refused(BadOrders, None, layered, orders=None, many=12, web=line(2))
+        self.refused(BadFolding, None, unlayered, value=None, other=ring(3), one=ring(6))
+        self.refused(BadText, 1, read_web, text="0")
+        self.refused(BadDeed, 0, Bench(web=line(2)).do, deed=None)
+        self.refused(BadDeed, None, Bench(web=line(2)).do_all, deeds=None)
 
     def test_arguments_are_not_modified(self):
         for function, named in calls():
             with self.subTest(function=function.__name__):
                 before = copy.deepcopy(named)
-                function(**named)
+                told(function(**named))
                 self.assertEqual(named, before)
                 for name in named:
                     if isinstance(named[name], Web):

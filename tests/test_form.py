@@ -16,8 +16,15 @@ INTERFACE = {
     "foldings": ["is_folding"],
     "commons": ["alike", "plain_size", "common"],
     "papers": ["paper", "is_paper"],
+    "turnings": ["MOST_FOLDED", "MOST_FOLDINGS", "foldings", "count_foldings", "folding_at", "folding_number",
+                 "turnings", "lone"],
+    "layers": ["MOST_LAYERS", "layered", "down", "count_layered", "count_whole", "leaves", "unlayered"],
+    "texts": ["web_text", "read_web", "view_text"],
+    "bench": ["Bench", "tried"],
 }
-METHODS = {("webs", "Web"): ["__init__", "__len__", "__eq__", "neighbours"]}
+METHODS = {("webs", "Web"): ["__init__", "__len__", "__eq__", "neighbours"],
+           ("bench", "Bench"): ["__init__", "__len__", "__eq__", "web", "deeds", "do", "do_all", "undo", "redo",
+                                "is_alike", "trial"]}
 BUILTINS = set("""len range enumerate zip min max sum abs sorted reversed int str bool bytes list tuple
     dict set isinstance ord repr any all divmod iter next super property ValueError KeyError IndexError
     TypeError LookupError ZeroDivisionError OverflowError RuntimeError Exception StopIteration

@@ -98,6 +98,18 @@ class Web:
         return self.rows[place]
 
 
+def web_of_parts(colours, ties, rows):
+    """The web of these colours and ties, all of them right, and with these neighbours.
+
+    Nothing is asked again: that takes most of the time of making a great web.
+    """
+    web = Web((0,), ())
+    web.colours = colours
+    web.ties = ties
+    web.rows = rows
+    return web
+
+
 def reached(rows, place):
     """A dict of all places to which rows of neighbours lead from a place, and of the place itself."""
     met = {place: True}
